@@ -1,0 +1,64 @@
+"""The interface: every name with its arguments as they stand there."""
+
+import unittest
+from importlib import import_module
+from inspect import Parameter, isclass, isfunction, signature
+
+FUNCTIONS = {
+    "numbers": {
+        "is_fraction": ("thing",),
+        "fraction": ("top", "bottom"),
+        "plus": ("one", "other"),
+        "less": ("one", "other"),
+        "times": ("one", "other"),
+        "is_below": ("one", "other"),
+        "root": ("one",),
+    },
+    "places": {
+        "is_place": ("thing",),
+        "place": ("x", "y"),
+        "across": ("one",),
+        "up": ("one",),
+        "is_lesser": ("one", "other"),
+        "is_on": ("a", "b", "one"),
+        "turn": ("a", "b", "c"),
+        "squared": ("one", "other"),
+    },
+}
+
+CLASSES = {
+    "errors": {
+        "NoPaper": ("word", "at"),
+        "NoOutline": ("word", "at"),
+        "NoJoin": ("word",),
+        "TooMany": ("word",),
+        "NoText": ("word",),
+    },
+}
+
+
+class TestInterface(unittest.TestCase):
+    def check(self, called, names):
+        told = signature(called).parameters.values()
+        self.assertEqual(tuple(one.name for one in told), names)
+        for one in told:
+            self.assertIs(one.default, Parameter.empty)
+            self.assertEqual(one.kind, Parameter.POSITIONAL_OR_KEYWORD)
+
+    def test_functions(self):
+        for module, functions in FUNCTIONS.items():
+            held = vars(import_module("widelines." + module))
+            for name, names in functions.items():
+                self.assertTrue(isfunction(held[name]), name)
+                self.check(held[name], names)
+
+    def test_classes(self):
+        for module, classes in CLASSES.items():
+            held = vars(import_module("widelines." + module))
+            for name, names in classes.items():
+                self.assertTrue(isclass(held[name]), name)
+                self.check(held[name], names)
+
+
+if __name__ == "__main__":
+    unittest.main()

@@ -1,0 +1,174 @@
+"""The form of the package's files: what ../shared/LANGUAGE.md asks and a tree of the code shows."""
+
+import ast
+import builtins
+import re
+import unittest
+from pathlib import Path
+
+PACKAGE = Path(__file__).resolve().parent.parent / "widelines"
+
+ALLOWED_NODES = """
+Module Import ImportFrom alias FunctionDef arguments arg Lambda ClassDef Assign AnnAssign AugAssign
+If While For Return Break Continue Pass Raise Try ExceptHandler Expr Call keyword
+Constant List Tuple Dict Set Name Attribute Subscript Slice Load Store
+BinOp Add Sub Mult FloorDiv Mod Pow BitAnd BitOr BitXor LShift RShift
+UnaryOp USub UAdd Not Invert BoolOp And Or IfExp ListComp comprehension
+Compare Eq NotEq Lt LtE Gt GtE Is IsNot In NotIn JoinedStr FormattedValue
+""".split()
+
+ALLOWED_BUILTINS = """
+len range enumerate zip min max sum abs sorted reversed int str bool list tuple dict set frozenset
+isinstance ord repr any all divmod Exception ValueError TypeError KeyError IndexError LookupError
+ZeroDivisionError ArithmeticError OverflowError RuntimeError NotImplementedError StopIteration
+""".split()
+
+ALLOWED_UNDERSCORES = ("__init__", "__eq__", "__repr__", "__str__", "__len__", "__all__", "__version__", "__name__")
+
+VALUE_METHODS = """
+append clear copy count endswith extend find get index insert isalnum isalpha isdigit islower isspace isupper
+items join keys ljust lower lstrip partition pop remove replace reverse rfind rjust rpartition rsplit rstrip
+setdefault split splitlines startswith strip update upper values zfill bit_length
+""".split()
+
+BARRED_WORDS = """
+type typing typing_extensions enum Enum IntEnum StrEnum Flag IntFlag Generic Protocol ABC ABCMeta
+namedtuple NamedTuple TypedDict TYPE_CHECKING abstractmethod
+""".split()
+
+BARRED_WITHIN_WORDS = ("dataclass", "overload", "contextmanager")
+
+BARRED_NAMES = """
+register mro elements open input version_info with_traceback add_note attrgetter breakpoint builtins compile
+copyright credits delattr dir eval exec exit gc getattr globals hasattr help id importlib license locals
+methodcaller os quit setattr super type vars
+""".split()
+
+FUNCTION_LINES = 40
+FILE_LINES = 400
+LINE_SIGNS = 120
+
+
+def files():
+    return sorted(PACKAGE.glob("*.py"))
+
+
+def each_tree():
+    return [(path.name, ast.parse(path.read_text(encoding="ascii"))) for path in files()]
+
+
+def each_node():
+    return [(name, node) for name, tree in each_tree() for node in ast.walk(tree)]
+
+
+def told_names(node):
+    """The names that a node writes out, used or bound."""
+    if isinstance(node, ast.Name):
+        return [node.id]
+    if isinstance(node, ast.arg):
+        return [node.arg]
+    if isinstance(node, ast.Attribute):
+        return [node.attr]
+    if isinstance(node, (ast.FunctionDef, ast.ClassDef, ast.ExceptHandler)):
+        return [node.name] if node.name else []
+    return []
+
+
+class TestFiles(unittest.TestCase):
+    def test_nothing_else_lies_in_the_package(self):
+        others = [path.name for path in PACKAGE.iterdir() if path.suffix != ".py" and path.name != "__pycache__"]
+        self.assertEqual(others, [])
+        for path in files():
+            self.assertRegex(path.name, r"^(__init__|__main__|[a-z][a-z0-9_]*)\.py$")
+        self.assertTrue((PACKAGE / "__init__.py").is_file())
+
+    def test_signs_and_sizes(self):
+        for path in files():
+            text = path.read_bytes().decode("utf-8")
+            self.assertRegex(text, r"\A[ -~\n]*\Z", path.name)
+            rows = text.splitlines()
+            self.assertLessEqual(len(rows), FILE_LINES, path.name)
+            for row in rows:
+                self.assertLessEqual(len(row), LINE_SIGNS, path.name)
+
+    def test_words(self):
+        for path in files():
+            text = path.read_text(encoding="ascii")
+            for word in BARRED_WORDS:
+                self.assertIsNone(re.search(rf"\b{word}\b", text), (path.name, word))
+            for word in BARRED_WITHIN_WORDS:
+                self.assertNotIn(word, text, path.name)
+
+
+class TestTrees(unittest.TestCase):
+    def test_statements_and_expressions(self):
+        for name, node in each_node():
+            self.assertIn(type(node).__name__, ALLOWED_NODES, (name, getattr(node, "lineno", 0)))
+
+    def test_top_of_a_module(self):
+        for name, tree in each_tree():
+            for row in tree.body[1:]:
+                allowed = (ast.ImportFrom, ast.FunctionDef, ast.ClassDef, ast.Assign)
+                if name == "__main__.py":
+                    allowed += (ast.Import, ast.If)
+                self.assertIsInstance(row, allowed, (name, row.lineno))
+            self.assertIsNotNone(ast.get_docstring(tree), name)
+
+    def test_imports(self):
+        held = {name: [top for row in tree.body for top in told_names(row)] for name, tree in each_tree()}
+        for name, node in each_node():
+            if isinstance(node, ast.ImportFrom):
+                self.assertEqual(node.level, 0)
+                package, dot, module = node.module.partition(".")
+                self.assertEqual((package, dot), ("widelines", "."), name)
+                for one in node.names:
+                    self.assertIn(one.name, held[module + ".py"], name)
+            if isinstance(node, ast.Import):
+                self.assertEqual((name, [one.name for one in node.names]), ("__main__.py", ["sys"]))
+
+    def test_functions(self):
+        for name, node in each_node():
+            if isinstance(node, ast.FunctionDef):
+                self.assertLessEqual(node.end_lineno - node.lineno + 1, FUNCTION_LINES, (name, node.name))
+                self.assertEqual(node.decorator_list, [])
+                told = node.args
+                self.assertEqual((told.vararg, told.kwarg, told.kwonlyargs, told.posonlyargs), (None, None, [], []))
+
+    def test_names(self):
+        for name, node in each_node():
+            for told in told_names(node):
+                if told in ALLOWED_UNDERSCORES:
+                    continue
+                self.assertRegex(told, r"^[A-Za-z][A-Za-z0-9_]*$", name)
+                self.assertNotIn(told, BARRED_NAMES, name)
+                if isinstance(node, ast.Name) and hasattr(builtins, told):
+                    wanted = ALLOWED_BUILTINS + (["print"] if name == "__main__.py" else [])
+                    self.assertIn(told, wanted, (name, node.lineno))
+                if not isinstance(node, (ast.Name, ast.Attribute)):
+                    self.assertFalse(hasattr(builtins, told), (name, told))
+
+    def test_methods(self):
+        own = [one.name for name, one in each_node() if isinstance(one, ast.FunctionDef)]
+        for name, node in each_node():
+            if isinstance(node, ast.Call) and isinstance(node.func, ast.Attribute):
+                self.assertIn(node.func.attr, VALUE_METHODS + own, (name, node.lineno))
+
+    def test_values(self):
+        for name, node in each_node():
+            if isinstance(node, ast.Constant):
+                self.assertIsInstance(node.value, (int, str, type(None)), name)
+                self.assertNotIn(chr(37), str(node.value), name)
+            if isinstance(node, ast.Assign):
+                self.assertEqual(len(node.targets), 1, (name, node.lineno))
+                self.assertNotIsInstance(node.targets[0], ast.Starred)
+            if isinstance(node, (ast.For, ast.While)):
+                self.assertEqual(node.orelse, [], (name, node.lineno))
+            if isinstance(node, ast.ListComp):
+                self.assertEqual(len(node.generators), 1, (name, node.lineno))
+                self.assertLessEqual(len(node.generators[0].ifs), 1, (name, node.lineno))
+            if isinstance(node, ast.Compare) and isinstance(node.ops[0], (ast.Is, ast.IsNot)):
+                self.assertIsInstance(node.comparators[0], ast.Constant, (name, node.lineno))
+
+
+if __name__ == "__main__":
+    unittest.main()

@@ -1,0 +1,1 @@
+"""Widelines: lines of straight pieces made wide, with exact coordinates."""
