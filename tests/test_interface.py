@@ -24,6 +24,29 @@ FUNCTIONS = {
         "turn": ("a", "b", "c"),
         "squared": ("one", "other"),
     },
+    "lines": {
+        "is_line": ("thing",),
+        "is_rule": ("thing",),
+        "is_exact": ("line",),
+        "pieces": ("line",),
+        "lengths": ("line",),
+    },
+    "shapes": {
+        "is_shape": ("thing",),
+        "shape_of": ("some",),
+        "cut_off": ("shape", "a", "b"),
+        "twelve": ("one", "half"),
+        "belongs": ("shape", "one"),
+        "is_within": ("shape", "one"),
+        "in_area": ("shapes", "one"),
+    },
+    "widening": {
+        "widened": ("line", "rule"),
+    },
+    "placepapers": {
+        "lets_place": ("shapes", "one", "thing"),
+        "place_paper": ("shapes", "one"),
+    },
 }
 
 CLASSES = {

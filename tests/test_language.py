@@ -170,5 +170,184 @@ class TestTrees(unittest.TestCase):
                 self.assertIsInstance(node.comparators[0], ast.Constant, (name, node.lineno))
 
 
+WALKED = ("zip", "enumerate", "reversed", "range")
+WALKERS = ("list", "tuple", "dict", "sorted", "sum", "any", "all", "enumerate", "zip")
+KEYWORDS = {
+    "sorted": ("key", "reverse"),
+    "min": ("key", "default"),
+    "max": ("key", "default"),
+    "sum": ("start",),
+    "enumerate": ("start",),
+    "zip": ("strict",),
+}
+
+
+def each_function():
+    return [(name, node) for name, node in each_node() if isinstance(node, ast.FunctionDef)]
+
+
+def called(node):
+    """The name that a call calls, where it is a plain one."""
+    return node.func.id if isinstance(node, ast.Call) and isinstance(node.func, ast.Name) else None
+
+
+def walked_on_the_spot(node):
+    """The calls that a node walks at once."""
+    if isinstance(node, (ast.For, ast.comprehension)):
+        return [node.iter]
+    if isinstance(node, ast.Call):
+        if called(node) in WALKERS:
+            return node.args if called(node) in ("zip",) else node.args[:1]
+        if called(node) in ("min", "max") and len(node.args) == 1:
+            return node.args
+        if isinstance(node.func, ast.Attribute) and node.func.attr == "join":
+            return node.args
+    return []
+
+
+class TestRules(unittest.TestCase):
+    """Rules of which the tree shows whether they hold, where the package may be narrower than they are."""
+
+    def test_a_row_by_itself_is_a_call(self):
+        for name, tree in each_tree():
+            for node in ast.walk(tree):
+                if isinstance(node, ast.Expr) and node is not tree.body[0]:
+                    self.assertIsInstance(node.value, ast.Call, (name, node.lineno))
+
+    def test_top_values_are_plain(self):
+        plain = (ast.Constant, ast.Tuple, ast.List, ast.Dict, ast.UnaryOp, ast.USub, ast.Load, ast.Name)
+        for name, tree in each_tree():
+            for row in tree.body:
+                if isinstance(row, ast.Assign):
+                    self.assertIsInstance(row.targets[0], ast.Name)
+                    for node in ast.walk(row.value):
+                        self.assertIsInstance(node, plain, (name, row.lineno))
+                        if isinstance(node, (ast.List, ast.Dict)):
+                            self.assertIs(node, row.value, (name, row.lineno))
+
+    def test_each_top_name_once(self):
+        for name, tree in each_tree():
+            bound = [told for row in tree.body for told in told_names(row)]
+            bound += [one.asname or one.name for row in tree.body if isinstance(row, ast.ImportFrom) for one in row.names]
+            bound += [row.targets[0].id for row in tree.body if isinstance(row, ast.Assign)]
+            self.assertEqual(len(bound), len(set(bound)), name)
+
+    def test_locals(self):
+        for name, tree in each_tree():
+            taken = [one.name for row in tree.body if isinstance(row, ast.ImportFrom) for one in row.names]
+            taken += [row.name for row in tree.body if isinstance(row, (ast.ClassDef, ast.FunctionDef))]
+            for node in ast.walk(tree):
+                if isinstance(node, ast.arg):
+                    self.assertNotIn(node.arg, taken, (name, node.lineno))
+                if isinstance(node, ast.Name) and isinstance(node.ctx, ast.Store):
+                    self.assertNotIn(node.id, taken, (name, node.lineno))
+                    self.assertFalse(hasattr(builtins, node.id), (name, node.id))
+
+    def test_no_two_files_draw_from_one_another(self):
+        drawn = {
+            name: [row.module.partition(".")[2] + ".py" for row in tree.body if isinstance(row, ast.ImportFrom)]
+            for name, tree in each_tree()
+        }
+        placed = []
+        while len(placed) < len(drawn):
+            free = [name for name in drawn if name not in placed and all(other in placed for other in drawn[name])]
+            self.assertNotEqual(free, [], "some files draw from one another")
+            placed += free
+
+    def test_imports_stand_at_the_top_and_are_used(self):
+        for name, tree in each_tree():
+            used = [node.id for node in ast.walk(tree) if isinstance(node, ast.Name)]
+            for node in ast.walk(tree):
+                if isinstance(node, ast.ImportFrom):
+                    self.assertIn(node, tree.body, name)
+                    for one in node.names:
+                        self.assertIsNone(one.asname)
+                        self.assertIn(one.name, used, name)
+
+    def test_no_annotations(self):
+        for name, node in each_node():
+            self.assertNotIsInstance(node, ast.AnnAssign)
+            if isinstance(node, ast.arg):
+                self.assertIsNone(node.annotation)
+            if isinstance(node, ast.FunctionDef):
+                self.assertIsNone(node.returns)
+
+    def test_pythons_own_are_called(self):
+        for name, tree in each_tree():
+            stands = [node.func for node in ast.walk(tree) if isinstance(node, ast.Call)]
+            stands += [base for node in ast.walk(tree) if isinstance(node, ast.ClassDef) for base in node.bases]
+            for node in ast.walk(tree):
+                if called(node) == "isinstance":
+                    stands += list(ast.walk(node.args[1]))
+                if isinstance(node, (ast.ExceptHandler,)):
+                    stands += list(ast.walk(node.type))
+            for node in ast.walk(tree):
+                if isinstance(node, ast.Name) and hasattr(builtins, node.id):
+                    self.assertIn(node, stands, (name, node.lineno))
+
+    def test_keywords(self):
+        for name, node in each_node():
+            if isinstance(node, ast.Call):
+                for keyword in node.keywords:
+                    self.assertIn(keyword.arg, KEYWORDS.get(called(node), ()), (name, node.lineno))
+
+    def test_walked_at_once(self):
+        for name, tree in each_tree():
+            walked = [one for node in ast.walk(tree) for one in walked_on_the_spot(node)]
+            for node in ast.walk(tree):
+                if called(node) in WALKED:
+                    self.assertIn(node, walked, (name, node.lineno))
+                if isinstance(node, ast.Call) and isinstance(node.func, ast.Attribute):
+                    if node.func.attr in ("items", "keys", "values"):
+                        self.assertIn(node, walked, (name, node.lineno))
+
+    def test_what_is_walked_stays(self):
+        for name, node in each_node():
+            if isinstance(node, ast.For):
+                walked = {one.id for one in ast.walk(node.iter) if isinstance(one, ast.Name)}
+                if called(node.iter) in ("list", "tuple", "sorted", "range"):
+                    walked = set()
+                for row in node.body:
+                    for one in ast.walk(row):
+                        if isinstance(one, (ast.Subscript, ast.Name)) and isinstance(one.ctx, ast.Store):
+                            held = one.value if isinstance(one, ast.Subscript) else one
+                            self.assertFalse(isinstance(held, ast.Name) and held.id in walked, (name, one.lineno))
+                        if isinstance(one, ast.Attribute) and isinstance(one.value, ast.Name):
+                            if one.attr in ("append", "clear", "extend", "insert", "pop", "remove", "reverse", "update"):
+                                self.assertNotIn(one.value.id, walked, (name, one.lineno))
+
+    def test_no_sets(self):
+        for name, node in each_node():
+            self.assertNotIsInstance(node, ast.Set, name)
+            self.assertNotIn(called(node), ("set", "frozenset"), name)
+
+    def test_powers_and_numbers(self):
+        for name, node in each_node():
+            if isinstance(node, ast.BinOp) and isinstance(node.op, ast.Pow):
+                self.assertIsInstance(node.right, ast.Constant, (name, node.lineno))
+                self.assertLessEqual(node.right.value, 64)
+
+    def test_errors_are_taken_by_name(self):
+        for name, node in each_node():
+            if isinstance(node, ast.ExceptHandler):
+                self.assertIsInstance(node.type, ast.Name, (name, node.lineno))
+                self.assertNotIn(node.type.id, ("Exception", "TypeError"), (name, node.lineno))
+            if isinstance(node, ast.Raise):
+                self.assertIsInstance(node.exc, ast.Call, (name, node.lineno))
+
+    def test_classes(self):
+        for name, tree in each_tree():
+            for node in ast.walk(tree):
+                if isinstance(node, ast.ClassDef):
+                    self.assertIn(node, tree.body)
+                    self.assertEqual((node.decorator_list, node.keywords), ([], []))
+                    self.assertLessEqual(len(node.bases), 1)
+                    for row in node.body:
+                        self.assertIsInstance(row, (ast.FunctionDef, ast.Pass), (name, row.lineno))
+        for name, node in each_function():
+            if node.name == "__init__":
+                self.assertFalse([one for one in ast.walk(node) if isinstance(one, ast.Return)], name)
+
+
 if __name__ == "__main__":
     unittest.main()

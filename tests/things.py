@@ -110,3 +110,13 @@ def check_numbers(test, told, size):
     test.assertEqual(len(told), size)
     for part in told:
         test.assertIs(type(part), int)
+
+
+def check_refused(test, ask, refusal, things, word, at):
+    for thing in things:
+        kept = deepcopy(thing)
+        with test.assertRaises(refusal, msg=repr(thing)) as taken:
+            ask(thing)
+        test.assertEqual((taken.exception.word, taken.exception.at), (word, at), thing)
+        test.assertIs(type(taken.exception.at), int)
+        test.assertEqual(repr(thing), repr(kept))
