@@ -47,6 +47,22 @@ FUNCTIONS = {
         "lets_place": ("shapes", "one", "thing"),
         "place_paper": ("shapes", "one"),
     },
+    "turning": {
+        "are_rings": ("thing",),
+        "turning": ("rings", "one"),
+        "ring_sum": ("rings",),
+    },
+    "outlines": {
+        "bare_parts": ("shapes",),
+        "outline": ("shapes",),
+    },
+    "outlinechecker": {
+        "lets_outline": ("shapes", "thing"),
+    },
+    "meeting": {
+        "lets_two": ("shapes", "others", "thing"),
+        "two_paper": ("shapes", "others"),
+    },
 }
 
 CLASSES = {

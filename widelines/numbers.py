@@ -51,11 +51,16 @@ def fraction(top, bottom):
 
 
 def plus(one, other):
-    return fraction(one[0] * other[1] + other[0] * one[1], one[1] * other[1])
+    # What can be taken out of the sum divides both bottoms: so of a great one and a small one it is
+    # found among small numbers.
+    shared = divisor_of_two(one[1], other[1])
+    top = one[0] * (other[1] // shared) + other[0] * (one[1] // shared)
+    taken_out = divisor_of_two(top, shared)
+    return (top // taken_out, one[1] // shared * (other[1] // taken_out))
 
 
 def less(one, other):
-    return fraction(one[0] * other[1] - other[0] * one[1], one[1] * other[1])
+    return plus(one, (-other[0], other[1]))
 
 
 def times(one, other):

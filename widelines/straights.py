@@ -45,6 +45,10 @@ def goes_ahead_by_two(one, other):
     return is_lesser(one[0], other[0])
 
 
+def span(a, b):
+    return (a, b) if is_lesser(a, b) else (b, a)
+
+
 def goes_on(a, b, c):
     # Along a straight line places rise or fall all the way, unless it is gone back.
     return turn(a, b, c) == 0 and is_lesser(a, b) == is_lesser(b, c)
