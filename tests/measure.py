@@ -1,7 +1,7 @@
 """Another way to the same answers, by Python's own Fraction, for the tests to measure with."""
 
 from fractions import Fraction
-from math import lcm
+from math import isqrt, lcm
 
 
 def spot(one):
@@ -80,3 +80,24 @@ def within_shape(shape, where):
 def midst(one, other):
     (ax, ay), (bx, by) = spot(one), spot(other)
     return (ax + bx) / 2, (ay + by) / 2
+
+
+def added(p, w, share=1):
+    return p[0] + share * w[0], p[1] + share * w[1]
+
+
+def quarter(w):
+    return -w[1], w[0]
+
+
+def distance(a, b):
+    """The distance of two pairs of Fractions between which it is one, too."""
+    square = (b[0] - a[0]) ** 2 + (b[1] - a[1]) ** 2
+    length = Fraction(isqrt(square.numerator), isqrt(square.denominator))
+    assert length * length == square
+    return length
+
+
+def direction(a, b):
+    length = distance(a, b)
+    return (b[0] - a[0]) / length, (b[1] - a[1]) / length

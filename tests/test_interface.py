@@ -63,6 +63,24 @@ FUNCTIONS = {
         "lets_two": ("shapes", "others", "thing"),
         "two_paper": ("shapes", "others"),
     },
+    "putback": {
+        "is_plain": ("line", "rule"),
+        "put_back": ("rings", "rule"),
+    },
+    "measuring": {
+        "line_length": ("line",),
+        "place_at": ("line", "length"),
+        "bounds": ("line",),
+    },
+    "marks": {
+        "part_of": ("line", "begin", "end"),
+        "mark_lengths": ("line", "pattern", "offset"),
+        "marks_of": ("line", "pattern", "offset"),
+    },
+    "joining": {
+        "split": ("line", "length"),
+        "joined": ("one", "other"),
+    },
 }
 
 CLASSES = {

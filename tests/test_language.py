@@ -197,7 +197,7 @@ def walked_on_the_spot(node):
         return [node.iter]
     if isinstance(node, ast.Call):
         if called(node) in WALKERS:
-            return node.args if called(node) in ("zip",) else node.args[:1]
+            return node.args[:1]
         if called(node) in ("min", "max") and len(node.args) == 1:
             return node.args
         if isinstance(node.func, ast.Attribute) and node.func.attr == "join":

@@ -3,9 +3,8 @@
 import unittest
 from fractions import Fraction
 from itertools import product
-from math import isqrt
 
-from measure import area, at, hull, hull_shape, places, spot, spread
+from measure import added, area, at, direction, hull, hull_shape, places, quarter, spot, spread
 from widelines.lines import is_exact, is_line, is_rule
 from widelines.shapes import in_area, is_shape
 from widelines.widening import widened
@@ -44,21 +43,6 @@ BOUNDS = ((1, 1), (4, 3), (3, 2), (2, 1), (50, 1))
 def rules(halves=HALVES, bounds=BOUNDS):
     for half, side, ending, joining, bound in product(halves, SIDES, ENDINGS, JOININGS, bounds):
         yield half, side, ending, joining, bound
-
-
-def added(p, w, share=1):
-    return p[0] + share * w[0], p[1] + share * w[1]
-
-
-def quarter(w):
-    return -w[1], w[0]
-
-
-def direction(a, b):
-    wide, high = b[0] - a[0], b[1] - a[1]
-    square = wide * wide + high * high
-    length = Fraction(isqrt(square.numerator), isqrt(square.denominator))
-    return wide / length, high / length
 
 
 def twelve_spots(p, half):

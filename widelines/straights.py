@@ -18,6 +18,10 @@ def edges(corners):
     return neighbours(corners, True)
 
 
+def begun_anywhere(row):
+    return [row[k:] + row[:k] for k in range(len(row))]
+
+
 # Python's own way of sorting wants a key, and of places of unlike bottoms there is no small one.
 
 
@@ -74,3 +78,10 @@ def side_of(line, one):
 
 def crossing(line, other):
     return lowest(upright(line, other))
+
+
+def between(a, b, share):
+    # At a for a share of nought, at b for one of 1.
+    near = b[2] * (share[1] - share[0])
+    far = a[2] * share[0]
+    return lowest((a[0] * near + b[0] * far, a[1] * near + b[1] * far, a[2] * b[2] * share[1]))

@@ -62,8 +62,12 @@ def strip_corners(spot, one, side):
     return [left, right]
 
 
+def bend_of(one, other):
+    return sign(one[2][0] * other[2][1] - one[2][1] * other[2][0])
+
+
 def join_at(one, other, rule):
-    bend = sign(one[2][0] * other[2][1] - one[2][1] * other[2][0])
+    bend = bend_of(one, other)
     if bend == 0:
         return turning_back(one, rule)
     # The gap of a turn lies on its outer side: to the left there is none where it goes left.
@@ -84,6 +88,12 @@ def outer_corner(spot, one, bend):
     return moved(spot, turned_about(one[3]) if bend == 1 else one[3])
 
 
+def tip_at(one, other, bend):
+    begin = outer_corner(one[1], one, bend)
+    end = outer_corner(one[1], other, bend)
+    return crossing(straight(begin, moved(begin, one[2])), straight(end, moved(end, other[2])))
+
+
 def round_join(one, other, bend, rule):
     spot = one[1]
     begin = outer_corner(spot, one, bend)
@@ -96,11 +106,9 @@ def round_join(one, other, bend, rule):
 
 def cornered_join(one, other, bend, rule):
     spot = one[1]
-    begin = outer_corner(spot, one, bend)
-    end = outer_corner(spot, other, bend)
-    corners = [spot, begin, end]
+    corners = [spot, outer_corner(spot, one, bend), outer_corner(spot, other, bend)]
     if rule[3] == "pointed":
-        tip = crossing(straight(begin, moved(begin, one[2])), straight(end, moved(end, other[2])))
+        tip = tip_at(one, other, bend)
         if is_near(spot, tip, times(rule[4], rule[0])):
             corners.append(tip)
     return shape_of(corners)
