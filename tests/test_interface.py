@@ -81,6 +81,28 @@ FUNCTIONS = {
         "split": ("line", "length"),
         "joined": ("one", "other"),
     },
+    "changes": {
+        "is_change": ("thing",),
+        "changed_place": ("change", "one"),
+        "changed_line": ("change", "line"),
+        "changed_rule": ("change", "rule"),
+        "changed_shape": ("change", "shape"),
+        "changed_rings": ("change", "rings"),
+        "turned_about": ("line",),
+        "other_side": ("rule",),
+    },
+    "crossings": {
+        "common": ("one", "other"),
+        "crossings": ("line",),
+    },
+    "texts": {
+        "fraction_text": ("one",),
+        "place_text": ("one",),
+        "line_text": ("line",),
+        "rule_text": ("rule",),
+        "read_line": ("text",),
+        "read_rule": ("text",),
+    },
 }
 
 CLASSES = {
@@ -90,6 +112,15 @@ CLASSES = {
         "NoJoin": ("word",),
         "TooMany": ("word",),
         "NoText": ("word",),
+    },
+    "desk": {
+        "Desk": ("line_words", "rule_words"),
+    },
+}
+
+METHODS = {
+    "desk": {
+        "Desk": {"say": ("self", "row")},
     },
 }
 
@@ -115,6 +146,14 @@ class TestInterface(unittest.TestCase):
             for name, names in classes.items():
                 self.assertTrue(isclass(held[name]), name)
                 self.check(held[name], names)
+
+    def test_methods(self):
+        for module, classes in METHODS.items():
+            held = vars(import_module("widelines." + module))
+            for name, methods in classes.items():
+                for method, names in methods.items():
+                    self.assertTrue(isfunction(vars(held[name])[method]), method)
+                    self.check(vars(held[name])[method], names)
 
 
 if __name__ == "__main__":

@@ -44,6 +44,10 @@ copyright credits delattr dir eval exec exit gc getattr globals hasattr help id 
 methodcaller os quit setattr super type vars
 """.split()
 
+BARRED_VALUES = """
+items keys values pop update append clear extend insert remove reverse setdefault sort args encode format
+""".split()
+
 FUNCTION_LINES = 40
 FILE_LINES = 400
 LINE_SIGNS = 120
@@ -184,6 +188,17 @@ KEYWORDS = {
 
 def each_function():
     return [(name, node) for name, node in each_node() if isinstance(node, ast.FunctionDef)]
+
+
+def held_by_classes():
+    """The names of all methods, and of all values that methods give to an object."""
+    methods, values = [], []
+    for name, node in each_node():
+        if isinstance(node, ast.ClassDef):
+            methods += [row.name for row in node.body if isinstance(row, ast.FunctionDef)]
+        if isinstance(node, ast.Attribute) and isinstance(node.ctx, ast.Store):
+            values.append(node.attr)
+    return methods, values
 
 
 def called(node):
@@ -344,6 +359,9 @@ class TestRules(unittest.TestCase):
                     self.assertLessEqual(len(node.bases), 1)
                     for row in node.body:
                         self.assertIsInstance(row, (ast.FunctionDef, ast.Pass), (name, row.lineno))
+        methods, values = held_by_classes()
+        self.assertEqual(set(methods) & set(values), set())
+        self.assertEqual(set(values) & set(BARRED_VALUES), set())
         for name, node in each_function():
             if node.name == "__init__":
                 self.assertFalse([one for one in ast.walk(node) if isinstance(one, ast.Return)], name)

@@ -4,6 +4,7 @@ import unittest
 from fractions import Fraction
 from itertools import product
 
+from exactlines import GREAT, LEFT_TURN, STRAIGHT, STRAIGHT_BACK
 from measure import added, area, at, direction, hull, hull_shape, places, quarter, spot, spread
 from widelines.lines import is_exact, is_line, is_rule
 from widelines.shapes import in_area, is_shape
@@ -12,12 +13,8 @@ from widelines.widening import widened
 SIDES = ("both", "left", "right")
 ENDINGS = ("cut", "square", "round")
 JOININGS = ("cut", "pointed", "round")
-GREAT = 10**29
 
-STRAIGHT = (False, places((0, 0), (10, 0)))
-LEFT_TURN = (False, places((0, 0), (10, 0), (10, 10)))
 RIGHT_TURN = (False, places((0, 0), (10, 0), (10, -10)))
-STRAIGHT_BACK = (False, places((0, 0), (10, 0), (4, 0)))
 LINES = (
     STRAIGHT,
     LEFT_TURN,

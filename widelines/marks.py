@@ -24,7 +24,7 @@ def mark_lengths(line, pattern, offset):
     while is_below(begin, whole):
         end = plus(begin, pattern[number])
         if number % 2 == 0 and is_below((0, 1), end):
-            told.append((greater(begin, (0, 1)), lower(end, whole)))
+            told.append((greater_of(begin, (0, 1)), lesser_of(end, whole)))
         # Refused here, not behind the last one: there may be more than anybody could go along.
         if len(told) > MOST_MARKS:
             raise TooMany("marks")
@@ -47,11 +47,11 @@ def sum_of(fractions):
     return told
 
 
-def greater(one, other):
+def greater_of(one, other):
     return other if is_below(one, other) else one
 
 
-def lower(one, other):
+def lesser_of(one, other):
     return one if is_below(one, other) else other
 
 

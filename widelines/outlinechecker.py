@@ -8,7 +8,7 @@ from widelines.errors import NoOutline
 from widelines.numbers import divisor
 from widelines.outlines import bare_parts
 from widelines.places import is_lesser
-from widelines.straights import edges, goes_ahead_by_two, in_order, span, straight
+from widelines.straights import edges, in_order, row_goes_ahead, span, straight
 from widelines.turning import are_rings
 
 
@@ -65,7 +65,7 @@ def spans_by_line(some):
     for a, b in some:
         spans.setdefault(line_of(a, b), []).append(span(a, b))
     for line in list(spans):
-        spans[line] = in_order(spans[line], goes_ahead_by_two)
+        spans[line] = in_order(spans[line], row_goes_ahead)
     return spans
 
 

@@ -1,8 +1,8 @@
 """The outline of shapes: its bare parts, and the rings that go along them."""
 
 from widelines.places import is_lesser, turn
-from widelines.straights import crossing, edges, goes_ahead_by_two, goes_on, in_order, neighbours
-from widelines.straights import side_of, span, straight
+from widelines.straights import crossing, edges, goes_on, in_order, neighbours, ordered_rings
+from widelines.straights import row_goes_ahead, side_of, span, straight
 
 
 def bare_parts(shapes):
@@ -11,7 +11,7 @@ def bare_parts(shapes):
         for a, b in edges(shape):
             for part in bare_parts_of_edge(a, b, shapes):
                 told[part] = True
-    return in_order(list(told), goes_ahead_by_two)
+    return in_order(list(told), row_goes_ahead)
 
 
 def bare_parts_of_edge(a, b, shapes):
@@ -64,8 +64,8 @@ def outline(shapes):
     for part in parts:
         if part not in gone:
             row = gone_along(part, ends, gone)
-            rings.append(begun_least(without_straight_places(row)))
-    return tuple(in_order(rings, goes_ahead_by_two))
+            rings.append(without_straight_places(row))
+    return ordered_rings(rings)
 
 
 def ends_by_begin(parts):
@@ -110,13 +110,4 @@ def without_straight_places(row):
         after = row[(k + 1) % len(row)]
         if not goes_on(row[k - 1], one, after):
             kept.append(one)
-    return kept
-
-
-def begun_least(ring):
-    ways = edges(ring)
-    best = 0
-    for k in range(1, len(ways)):
-        if goes_ahead_by_two(ways[k], ways[best]):
-            best = k
-    return tuple(ring[best:] + ring[:best])
+    return tuple(kept)

@@ -18,8 +18,12 @@ def edges(corners):
     return neighbours(corners, True)
 
 
+def begun_at(row, number):
+    return row[number:] + row[:number]
+
+
 def begun_anywhere(row):
-    return [row[k:] + row[:k] for k in range(len(row))]
+    return [begun_at(row, number) for number in range(len(row))]
 
 
 # Python's own way of sorting wants a key, and of places of unlike bottoms there is no small one.
@@ -43,10 +47,24 @@ def merged(ones, others, goes_ahead):
     return told + others[taken:]
 
 
-def goes_ahead_by_two(one, other):
-    if one[0] == other[0]:
-        return is_lesser(one[1], other[1])
-    return is_lesser(one[0], other[0])
+def row_goes_ahead(one, other):
+    for here, there in zip(one, other):
+        if here != there:
+            return is_lesser(here, there)
+    return len(one) < len(other)
+
+
+def ordered_rings(rings):
+    return tuple(in_order([begun_least(ring) for ring in rings], row_goes_ahead))
+
+
+def begun_least(ring):
+    best = ring
+    for number in range(1, len(ring)):
+        row = begun_at(ring, number)
+        if row_goes_ahead(row, best):
+            best = row
+    return best
 
 
 def span(a, b):
